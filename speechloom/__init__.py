@@ -1,0 +1,1 @@
+"""Speechloom: tongues told as rules whose features must agree."""
