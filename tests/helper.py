@@ -82,12 +82,12 @@ def rule_of(chance, number, features, kinds):
         chosen = [("host", chance.choice(plain), True), ("fill", chance.choice(gaps), False)]
     else:
         chosen = [("head", chance.choice(plain), chance.random() < 0.8)]
-        for _ in range(chance.choice((0, 1, 1, 1, 2))):
+        for _ in range(chance.choice((0, 0, 1, 1, 2))):
             chosen.append((chance.choice(ROLES), chance.choice(plain), chance.random() < 0.7))
     if mute and chance.random() < 0.3:
         chosen.append(("-", chance.choice(mute), False))
     chance.shuffle(chosen)
-    parts = [(role, kind[0], bundle_of(chance, features, kind[1]) if chance.random() < 0.4 else {}, lets)
+    parts = [(role, kind[0], bundle_of(chance, features, kind[1]) if chance.random() < 0.25 else {}, lets)
              for role, kind, lets in chosen]
     bundle = bundle_of(chance, features, whole[1]) if chance.random() < 0.3 else {}
     pairs = [(at, name) for at, (_, kind, _) in enumerate(chosen) for name in kind[1]]
@@ -98,8 +98,10 @@ def rule_of(chance, number, features, kinds):
             agrees.append([(-1, name), chance.choice(alike)])
         else:
             bundle[name] = [chance.choice([values for feature, values, _ in features if feature == name][0])]
-    if len(pairs) > 1 and chance.random() < 0.5:
-        agrees.append(chance.sample(pairs, 2))
+    pairs += [(-1, name) for name in whole[1]]
+    if len(pairs) > 1:
+        agrees += [chance.sample(pairs, 2) for _ in range(chance.choice((0, 0, 1, 2)))]
+    chance.shuffle(agrees)
     many = len(parts)
     ahead = [tuple(chance.sample(range(many), 2))] if many > 1 and chance.random() < 0.3 else []
     order = (chance.randint(0, many), chance.randint(0, 3), ahead)
@@ -130,15 +132,18 @@ def told_by(chance):
 
 
 def tongues(seed, many):
-    """So many pairs (told, Tongue)."""
+    """So many pairs (told, Tongue), of each of which two rules at least can stand over something."""
     chance = random.Random(seed)
     found = []
     while len(found) < many:
         told = told_by(chance)
         try:
-            found.append((told, Tongue(told)))
+            tongue = Tongue(told)
         except BadTongue:
-            pass
+            continue
+        symbols, rows = Plain(told).grown()
+        if len({row[0] for row in rows}) >= 2 and len(symbols) <= 40:
+            found.append((told, tongue))
     return found
 
 

@@ -260,7 +260,8 @@ class SoundRules(Checks):
                               [(2, "num")], [(-1, "num")], [(0, "gen"), (1, "gen"), (2, "num")], [(-1, "num"), (-1, "gen")])],
                          [{"agrees": [*whole, group]} for group in (
                               [], [(3, "num")], [(-2, "num")], [(1, "num")], [(0, "per")], [(2, "gen")], [(-1, "per")],
-                              [(0, "num"), (0, "num")], [(0, "num"), (-1, "num"), (0, "num")])])
+                              [(0, "num"), (0, "num")], [(0, "num"), (-1, "num"), (0, "num")],
+                              [(0, "num"), (1, "num")], [(0, "num"), (3, "num")], [(-2, "num"), (2, "num")])])
 
     def test_each_feature_of_the_whole_is_told(self):
         num, gen = [(-1, "num"), (0, "num")], [(-1, "gen"), (1, "gen")]
@@ -277,7 +278,7 @@ class SoundRules(Checks):
                               (0, 0, []), (4, 99, []), (2, 0, [(2, 0), (2, 0)]), (0, 0, [(0, 1), (0, 2)]))],
                          [{"order": order} for order in (
                               (-1, 0, []), (5, 0, []), (0, -1, []), (0, 100, []), (4, 0, [(0, 0)]), (4, 0, [(0, 3)]),
-                              (4, 0, [(-1, 0)]), (4, 0, [(3, 1)]))])
+                              (4, 0, [(-1, 0)]), (4, 0, [(0, -1)]), (4, 0, [(3, 1)]), (4, 0, [(0, 1), (0, 3)]))])
 
     def test_a_rule_whose_parts_can_stand_in_no_order(self):
         self.check_rules([], [{"order": order} for order in (
