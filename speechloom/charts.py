@@ -11,7 +11,7 @@ comes behind can't tell them apart. An edge is one way to make a node's trees, o
 from speechloom.fitting import fits_of
 from speechloom.lines import lines_of
 from speechloom.trees import is_gap
-from speechloom.words import analyses, values_of
+from speechloom.words import analyses, word_symbol
 
 
 def chart_of(tongue, words, gap):
@@ -114,9 +114,7 @@ class Chart:
             self.fitted = {}
             self.begun = {}
             for tree in analyses(self.tongue, word):
-                kind = self.tongue.own["stems"][tree[1]][1]
-                symbol = (kind, values_of(self.tongue, tree[1], tree[2]), ())
-                self.put_tree(end - 1, end, symbol, ("leaf", tree))
+                self.put_tree(end - 1, end, word_symbol(self.tongue, tree[1], tree[2]), ("leaf", tree))
             for start in reversed(range(end)):
                 at = 0
                 while at < len(self.fresh[start]):

@@ -1,7 +1,8 @@
-"""Gatherings: what is told of all trees of a chart's node, worked out from the nodes below it.
+"""Gatherings: what is told of all trees of a chart's or a loom's node, worked out from the nodes below it.
 
-Each class here tells one thing of packed trees: leaf of one word or gap, begin of the row without parts, step of rows
-with one part more, whole of the trees that a rule makes of full rows, choice of all edges of one node together.
+Each class here tells one thing of a chart's packed trees (those for a loom stand in tellers.py): leaf of one word or
+gap, begin of the row without parts, step of rows with one part more, whole of the trees that a rule makes of full rows,
+choice of all edges of one node together.
 """
 
 from speechloom.fitting import placed
@@ -25,8 +26,7 @@ def edge_told(edge, known, told):
         return known[edge[1]]
     if edge[0] == "rule":
         return told.whole(edge[1], known[edge[2]])
-    rule, part, place = edge[1]
-    rows = told.begin(rule) if edge[2] < 0 else known[edge[2]]
+    rows = told.begin(edge[1][0]) if edge[2] < 0 else known[edge[2]]
     return told.step(edge[1], rows, known[edge[3]])
 
 
@@ -55,6 +55,11 @@ def from_below(edges, roots):
             waiting.append((node, True))
             waiting.extend([(below, False) for edge in edges[node] for below in nodes_below(edge)])
     return order
+
+
+def trees_in_order(pairs):
+    """The trees of pairs (cost, tree), by rising pairs."""
+    return [tree for cost, tree in sorted(pairs)]
 
 
 def unlike(things):

@@ -5,7 +5,7 @@ Each symbol is taken once: it is put into each part that it fits, beside all tha
 
 from speechloom.bundles import choices
 from speechloom.fitting import bound_together, fits_of, fittings_of, picked, placed, shared
-from speechloom.words import kept_forms, values_of
+from speechloom.words import kept_forms, word_symbol
 
 
 def sayable(tongue):
@@ -21,7 +21,7 @@ def instances(tongue):
 def grown(tongue):
     """The pair of both lists, worked out once."""
     if "grown" not in tongue.kept:
-        growth = Growth(tongue)
+        growth = Growth(tongue, leaf_symbols(tongue))
         growth.grow()
         tongue.kept["grown"] = (sorted(growth.symbols), sorted(growth.rows))
     return tongue.kept["grown"]
@@ -53,9 +53,10 @@ class Shelf:
 
 
 class Growth:
-    """Symbols and instances, growing."""
+    """Instances over the symbols that are taken. Fields for the askers: symbols, the list of those that it began with,
+    unlike ones, and behind them those that came up; rows, the instances."""
 
-    def __init__(self, tongue):
+    def __init__(self, tongue, symbols):
         self.tongue = tongue
         self.plans = {}
         self.shelves = {}
@@ -64,8 +65,8 @@ class Growth:
                 self.plans[fitting.number, part] = plan_of(fitting, part)
                 self.shelves[fitting.number, part, False] = Shelf()
                 self.shelves[fitting.number, part, True] = Shelf()
-        self.symbols = leaf_symbols(tongue)
-        self.known = {symbol: True for symbol in self.symbols}
+        self.symbols = list(symbols)
+        self.known = {symbol: True for symbol in symbols}
         self.rows = []
 
     def grow(self):
@@ -130,7 +131,7 @@ def leaf_symbols(tongue):
     """The list of the unlike symbols of all words and all gaps."""
     found = {}
     for text, stem, ending in kept_forms(tongue):
-        found[tongue.own["stems"][stem][1], values_of(tongue, stem, ending), ()] = True
+        found[word_symbol(tongue, stem, ending)] = True
     for name, features, gap, mute in tongue.own["kinds"]:
         if gap:
             for values in choices(tongue.own["features"], features, {}):

@@ -53,3 +53,16 @@ def quiet_at(tongue, number, part):
     if key not in tongue.kept:
         tongue.kept[key] = quiet_places(tongue.own["rules"][number], tongue.placings[number], part)
     return tongue.kept[key]
+
+
+def placings_of(tongue, key):
+    """The rising list of (stir, places) of a rule's parts, key being (rule, part without words or -1); made once."""
+    name = ("placings", key)
+    if name not in tongue.kept:
+        number, unheard = key
+        placings = tongue.placings[number]
+        if unheard >= 0:
+            quiet = quiet_at(tongue, number, unheard)
+            placings = [quiet[order] for order in quiet]
+        tongue.kept[name] = sorted([(stir_of(tongue.own["rules"][number], places), places) for places in placings])
+    return tongue.kept[name]

@@ -1,7 +1,7 @@
 """Reading: rows of words to trees and meanings."""
 
 from speechloom.charts import chart_of
-from speechloom.gathering import Best, Counted, Listed, Meant, gathered
+from speechloom.gathering import Best, Counted, Listed, Meant, gathered, trees_in_order
 from speechloom.trees import is_sentence, is_whole_sentence, words_of
 
 
@@ -44,8 +44,3 @@ def gathered_of_sentences(tongue, words, told):
     roots = [chart.nodes[start, end, symbol] for start, end, symbol in chart.nodes
              if start == 0 and end == len(words) and is_whole_sentence(tongue, symbol)]
     return gathered(chart.edges, roots, told)
-
-
-def trees_in_order(pairs):
-    """The trees of pairs (cost, tree), by rising pairs."""
-    return [tree for cost, tree in sorted(pairs)]

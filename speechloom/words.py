@@ -21,6 +21,11 @@ def values_of(tongue, stem, ending):
     return tuple(both[name] for name in names)
 
 
+def word_symbol(tongue, stem, ending):
+    """The symbol of the word that stem and ending (numbers) make."""
+    return (tongue.own["stems"][stem][1], values_of(tongue, stem, ending), ())
+
+
 def text_of(tongue, stem, ending):
     """What is sewn of a stem and an ending (numbers)."""
     return sewn(tongue.own["seams"], tongue.own["stems"][stem][0], tongue.own["endings"][ending][1])

@@ -59,6 +59,16 @@ def one_rule(rule, kinds, stems=(), features=()):
     }
 
 
+def stem(text, kind, atom, rank=0):
+    return (text, kind, "x", atom, {}, rank)
+
+
+def pairing(stems, rank=0, order=(0, 0, [])):
+    """A tongue of one kind and one rule, which joins two of them."""
+    rule = ("r", rank, "n", {}, [("head", "n", {}, False), ("by", "n", {}, False)], [], order)
+    return one_rule(rule, [("n", [], False, False)], stems)
+
+
 def some(chance, things, least=0):
     things = list(things)
     return chance.sample(things, chance.randint(least, len(things))) if things else []
@@ -353,3 +363,112 @@ class Plain:
         found = [tree for symbol, trees in self.trees(words).items()
                  if symbol[0] == self.told["start"] and symbol[2] == () for tree in trees]
         return sorted(found, key=lambda tree: (self.cost(tree), tree))
+
+    # Saying.
+    def trees_meaning(self, meaning):
+        """All trees of this meaning that aren't mute, as a dict from symbols to lists of trees by rising (cost, tree)."""
+        told = {}
+        for name, _, _, mute in self.told["kinds"]:
+            if not mute:
+                for tree, symbol in self.meant(name, meaning, {}):
+                    told.setdefault(symbol, []).append(tree)
+        return {symbol: sorted(told[symbol], key=lambda tree: (self.cost(tree), tree)) for symbol in told}
+
+    def meant(self, kind, meaning, known):
+        """The list of (tree, symbol) of all trees of this kind and meaning, from above: a rule's parts take pairs."""
+        key = (kind, meaning)
+        if key not in known:
+            leaves = [tree for tree in [*self.word_trees(), *self.gap_trees()]
+                      if self.symbol(tree)[0][0] == kind and self.meaning(tree) == meaning]
+            found = [(tree, self.symbol(tree)[0]) for tree in leaves]
+            for number, rule in enumerate(self.rules):
+                if rule[2] == kind:
+                    for row in self.split(rule, meaning):
+                        found += self.over(number, rule, row, known)
+            known[key] = found
+        return known[key]
+
+    def split(self, rule, meaning):
+        """All rows of meanings for a rule's parts (None for mute ones) that make this meaning together."""
+        roles = [part[0] for part in rule[4]]
+        if "host" in roles:
+            pairs = [] if self.holes(meaning) else list(self.holed(meaning))
+            return [[{"host": host, "fill": fill, "-": None}[role] for role in roles] for host, fill in set(pairs)]
+        own = [part for part, role in enumerate(roles) if role not in ("head", "-")]
+        rows = set()
+        for chosen in itertools.permutations(range(len(meaning[2])), len(own)):
+            if all(meaning[2][at][0] == roles[part] for at, part in zip(chosen, own)):
+                rest = tuple(pair for at, pair in enumerate(meaning[2]) if at not in chosen)
+                row = [None] * len(roles)
+                row[roles.index("head")] = (meaning[0], meaning[1], rest)
+                for at, part in zip(chosen, own):
+                    row[part] = meaning[2][at][1]
+                rows.add(tuple(row))
+        return sorted(rows, key=repr)
+
+    def holes(self, meaning):
+        return (meaning[:2] == ("", ())) + sum(self.holes(inner) for _, inner in meaning[2])
+
+    def holed(self, meaning):
+        """All (host, fill) of which this meaning is made by filling."""
+        atom, marks, pairs = meaning
+        for mask in itertools.product((True, False), repeat=len(pairs)):
+            kept = tuple(pair for pair, flag in zip(pairs, mask) if flag)
+            yield ("", (), kept), (atom, marks, tuple(pair for pair, flag in zip(pairs, mask) if not flag))
+        for at, (role, inner) in enumerate(pairs):
+            for host, fill in self.holed(inner):
+                yield (atom, marks, tuple(sorted([*pairs[:at], (role, host), *pairs[at + 1:]]))), fill
+
+    def over(self, number, rule, row, known):
+        """The list of (tree, symbol) of a rule over parts of these meanings."""
+        pools = []
+        for (role, kind, _, _), meaning in zip(rule[4], row):
+            if role == "-":
+                pools.append([(tree, self.symbol(tree)[0]) for tree in self.word_trees() if self.symbol(tree)[0][0] == kind])
+            else:
+                pools.append(self.meant(kind, meaning, known))
+            if not pools[-1]:
+                return []
+        found = []
+        for chosen in itertools.product(*pools):
+            whole = self.whole(rule, [symbol for _, symbol in chosen])
+            trees = tuple(tree for tree, _ in chosen)
+            unheard = [part for part, tree in enumerate(trees) if not self.words(tree)]
+            for places in self.places(rule) if whole else []:
+                if all(self.quiet(rule, places, part) == places for part in unheard):
+                    found.append((("rule", number, places, trees), whole))
+        return found
+
+    def ways(self, meaning):
+        found = [tree for symbol, trees in self.trees_meaning(meaning).items()
+                 if symbol[0] == self.told["start"] and symbol[2] == () for tree in trees]
+        return sorted(found, key=lambda tree: (self.cost(tree), tree))
+
+    def sayings(self, meaning):
+        least = {}
+        for tree in self.ways(meaning):
+            least.setdefault(tuple(self.words(tree)), self.cost(tree))
+        return sorted((cost, words) for words, cost in least.items())
+
+    # Half said.
+    def rows_of(self, most):
+        """The set of the rows of words of all sentences of at most so many words."""
+        rows = {}
+        for tree in [*self.word_trees(), *self.gap_trees()]:
+            rows.setdefault(self.symbol(tree)[0], set()).add(tuple(self.words(tree)))
+        found = sorted(self.grown()[1])
+        many = -1
+        while many != sum(len(known) for known in rows.values()):
+            many = sum(len(known) for known in rows.values())
+            for number, symbols, whole in found:
+                for chosen in itertools.product(*[sorted(rows.get(symbol, ())) for symbol in symbols]):
+                    if sum(len(words) for words in chosen) <= most:
+                        rows.setdefault(whole, set()).update(self.rows_over(self.rules[number], chosen))
+        return set().union(*[rows[symbol] for symbol in rows if symbol[0] == self.told["start"] and symbol[2] == ()])
+
+    def rows_over(self, rule, chosen):
+        unheard = [part for part, words in enumerate(chosen) if not words]
+        for places in self.places(rule):
+            if all(self.quiet(rule, places, part) == places for part in unheard):
+                yield tuple(word for _, part in sorted((place, part) for part, place in enumerate(places))
+                            for word in chosen[part])

@@ -4,7 +4,7 @@ import itertools
 import random
 import unittest
 
-from helper import Plain, one_rule, small, tongues
+from helper import Plain, one_rule, pairing, small, stem, tongues
 from speechloom import reading as reading_file
 from speechloom.growing import sayable
 from speechloom.reading import best_reading, count_readings, meanings_for, readings, readings_as, shows_reading
@@ -17,16 +17,6 @@ A_DOG = ("rule", 1, (0, 1), (("word", 4, 2), ("word", 2, 0)))
 THE_CATS = ("rule", 1, (0, 1), (("word", 3, 4), ("word", 0, 1)))
 CATS_SEE_A_DOG = ("rule", 0, (0, 1), (THE_CATS, ("rule", 2, (0, 1), (("word", 6, 7), A_DOG))))
 NOW = ("word", 8, 2)
-
-
-def stem(text, kind, atom, rank=0):
-    return (text, kind, "x", atom, {}, rank)
-
-
-def pairing(stems, rank=0, order=(0, 0, [])):
-    """A tongue of one kind and one rule, which joins two of them."""
-    rule = ("r", rank, "n", {}, [("head", "n", {}, False), ("by", "n", {}, False)], [], order)
-    return one_rule(rule, [("n", [], False, False)], stems)
 
 
 def catalan(many):
