@@ -154,7 +154,8 @@ def kept_firsts(tongue):
             for root in lines_of(tongue)[rule].roots:
                 missing = root.state.missing
                 if all((symbol, part == missing) in least for part, symbol in enumerate(symbols)):
+                    known = firsts.setdefault(whole, {})
                     for part in root.state.steps:
-                        firsts.setdefault(whole, {})[symbols[part]] = True
+                        known[symbols[part]] = True
         tongue.kept["firsts"] = {whole: list(firsts[whole]) for whole in firsts}
     return tongue.kept["firsts"]

@@ -62,24 +62,24 @@ class Loom:
         """Makes the nodes of words: those that mean a piece, and all mute ones."""
         bare_words, mute_words = kept_words(self.tongue)
         for symbol, tree in mute_words:
-            self.put_tree((symbol, -1, False), ("leaf", tree))
+            self.put_said((symbol, -1, False), ("leaf", tree))
         for key in bare_words:
             piece = self.pieces.bare(key[0], key[1])
             if piece >= 0:
                 for symbol, tree in bare_words[key]:
-                    self.put_tree((symbol, piece, False), ("leaf", tree))
+                    self.put_said((symbol, piece, False), ("leaf", tree))
 
     def put_gap(self, gap):
         """Makes the node of a gap, where there is none yet."""
         key = ((gap[0], gap[1], gap), self.pieces.bare("", ()), True)
         if key[1] >= 0 and key not in self.nodes:
-            self.put_tree(key, ("leaf", ("gap", gap[0], gap[1])))
+            self.put_said(key, ("leaf", ("gap", gap[0], gap[1])))
 
     def weave(self):
         """Uses each node of trees, those that come up on the way too."""
         at = 0
         while at < len(self.fresh):
-            self.use(self.fresh[at])
+            self.use_said(self.fresh[at])
             at += 1
 
     def new_node(self, edge):
@@ -87,7 +87,7 @@ class Loom:
         self.edges.append([edge])
         return len(self.edges) - 1
 
-    def put_tree(self, key, edge):
+    def put_said(self, key, edge):
         """Gives the node of these trees one edge more."""
         if key in self.nodes:
             self.edges[self.nodes[key]].append(edge)
@@ -95,7 +95,7 @@ class Loom:
             self.nodes[key] = self.new_node(edge)
             self.fresh.append(key)
 
-    def use(self, key):
+    def use_said(self, key):
         """Puts the trees of a node into all parts that they fit."""
         symbol, piece, is_silent = key
         for fitting, part, binds in fits_of(self.tongue, symbol):
@@ -123,9 +123,9 @@ class Loom:
             place = (fitting.number, turn, tied, wish)
             self.shelves.setdefault(place, []).append(taken)
             for key in list(self.waiting.get(place, [])):
-                self.go_on(fitting, key, taken)
+                self.go_behind(fitting, key, taken)
 
-    def go_on(self, fitting, key, taken):
+    def go_behind(self, fitting, key, taken):
         """Puts a part behind rows, where they can stand together."""
         rule, turn, bound, held, piece, unheard = key
         part, binds, gap, inner, is_silent, node = taken
@@ -156,7 +156,7 @@ class Loom:
         if turn == len(fitting.parts):
             symbol = fitting.whole(bound, gap)
             is_silent = unheard >= 0 and turn == 1
-            self.put_tree((symbol, piece, is_silent), ("rule", (rule, unheard), self.begun[key]))
+            self.put_said((symbol, piece, is_silent), ("rule", (rule, unheard), self.begun[key]))
             return
         turns = self.turns[rule]
         tied = picked(bound, turns.tied[turn])
@@ -164,7 +164,7 @@ class Loom:
             place = (rule, turn, tied, wish)
             self.waiting.setdefault(place, []).append(key)
             for taken in list(self.shelves.get(place, [])):
-                self.go_on(fitting, key, taken)
+                self.go_behind(fitting, key, taken)
 
 
 def turns_of(tongue):

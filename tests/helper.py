@@ -283,8 +283,9 @@ class Plain:
             _, kind, _, atom, _, _ = self.told["stems"][tree[1]]
             pairs = zip(self.own[kind], self.word_values(tree[1], tree[2]))
             return (atom, tuple(sorted(pair for pair in pairs if self.is_told[pair[0]])), ())
-        roles = [part[0] for part in self.rules[tree[1]][4]]
-        inner = [self.meaning(below) for below in tree[3]]
+        return self.meaning_over([part[0] for part in self.rules[tree[1]][4]], [self.meaning(below) for below in tree[3]])
+
+    def meaning_over(self, roles, inner):
         if "host" in roles:
             return self.fill(inner[roles.index("host")], inner[roles.index("fill")])
         atom, marks, pairs = inner[roles.index("head")]
@@ -472,3 +473,25 @@ class Plain:
             if all(self.quiet(rule, places, part) == places for part in unheard):
                 yield tuple(word for _, part in sorted((place, part) for part, place in enumerate(places))
                             for word in chosen[part])
+
+    # Measures.
+    def meanings_of(self, most):
+        """The set of the meanings of all sentences of at most so many nodes."""
+        found = {}
+        for tree in [*self.word_trees(), *self.gap_trees()]:
+            found.setdefault(self.symbol(tree)[0], set()).add(self.meaning(tree))
+        rows = sorted(self.grown()[1])
+        many = -1
+        while many != sum(len(known) for known in found.values()):
+            many = sum(len(known) for known in found.values())
+            for number, symbols, whole in rows:
+                roles = [part[0] for part in self.rules[number][4]]
+                pools = [[None] if role == "-" else sorted(found.get(symbol, ())) for role, symbol in zip(roles, symbols)]
+                for chosen in itertools.product(*pools):
+                    meaning = self.meaning_over(roles, chosen)
+                    if self.nodes(meaning) <= most:
+                        found.setdefault(whole, set()).add(meaning)
+        return set().union(*[found[symbol] for symbol in found if symbol[0] == self.told["start"] and symbol[2] == ()])
+
+    def nodes(self, meaning):
+        return 1 + sum(self.nodes(inner) for _, inner in meaning[2])
