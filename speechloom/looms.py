@@ -53,10 +53,24 @@ class Loom:
         self.shelves = {}
         self.waiting = {}
         self.begun = {}
-        self.put_words()
-        if gap != () and is_gap(tongue, gap[0], gap[1]):
-            self.put_gap(gap)
-        self.weave()
+        if self.can_be_said(gap):
+            self.put_words()
+            if gap != () and is_gap(tongue, gap[0], gap[1]):
+                self.put_gap(gap)
+            self.weave()
+
+    def can_be_said(self, gap):
+        """Whether there is a word for each atom of the meaning, a part for each role, and a hole just where a gap is.
+
+        Where one is wanting nothing says the meaning, however many pieces of it could be said.
+        """
+        if self.pieces.asked < 0 or self.pieces.is_holed() != (gap != ()):
+            return False
+        known = kept_words(self.tongue)[0]
+        roles = [part[0] for rule in self.tongue.own["rules"] for part in rule[4]]
+        atoms = [self.pieces.made_of[full][:2] for full in self.pieces.fulls]
+        return all(atom in known or atom == ("", ()) for atom in atoms) and all(
+            role in roles for role, piece in self.pieces.pairs)
 
     def put_words(self):
         """Makes the nodes of words: those that mean a piece, and all mute ones."""

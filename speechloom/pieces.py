@@ -57,6 +57,10 @@ class Pieces:
                 pairs[around].append(self.pair_number(rows[around][0][2][number][0], piece))
         return piece
 
+    def is_holed(self):
+        """Whether the meaning itself, where it is one, has a hole."""
+        return self.hole_in[self.asked] != NO_HOLE
+
     def pair_number(self, role, piece):
         """The number of a pair, a new one where there is none yet."""
         key = (role, piece)

@@ -5,7 +5,7 @@ where the stir is: the places of least stir, then the least ones, go with the le
 """
 
 from speechloom.fitting import placed
-from speechloom.gathering import unlike
+from speechloom.gathering import Best, Counted, Listed, unlike
 from speechloom.places import order_of, placings_of
 from speechloom.trees import own_cost, own_words
 
@@ -20,42 +20,19 @@ def words_in_order(row, places):
     return tuple(word for part in order_of(places) for word in row[part])
 
 
-class CountedWays:
+class CountedWays(Counted):
     """How many trees there are."""
 
     def __init__(self, tongue):
         self.tongue = tongue
 
-    def leaf(self, tree):
-        """One word or gap."""
-        return 1
-
-    def begin(self, rule):
-        """The row without parts."""
-        return 1
-
-    def step(self, step, rows, inner):
-        """Rows with one part more."""
-        return rows * inner
-
     def whole(self, key, rows):
         """The trees of a rule."""
         return rows * len(placings_of(self.tongue, key))
 
-    def choice(self, counts):
-        """All together."""
-        return sum(counts)
 
-
-class BestWay:
+class BestWay(Best):
     """The least pair (cost, tree), or None; of rows the least (cost, trees), by parts' numbers."""
-
-    def __init__(self, tongue):
-        self.tongue = tongue
-
-    def leaf(self, tree):
-        """One word or gap."""
-        return (own_cost(self.tongue, tree), tree)
 
     def begin(self, rule):
         """The row without parts."""
@@ -74,37 +51,17 @@ class BestWay:
         """The pair of a rule's tree over this row at these places."""
         return (row[0] + self.tongue.own["rules"][rule][1] + stir, ("rule", rule, places, row[1]))
 
-    def choice(self, pairs):
-        """The least of all."""
-        return min(pairs, default=None)
 
-
-class ListedWays:
+class ListedWays(Listed):
     """The list of all pairs (cost, tree)."""
 
     def __init__(self, tongue):
         self.one = BestWay(tongue)
 
-    def leaf(self, tree):
-        """One word or gap."""
-        return [self.one.leaf(tree)]
-
-    def begin(self, rule):
-        """The row without parts."""
-        return [self.one.begin(rule)]
-
-    def step(self, step, rows, inner):
-        """Rows with one part more."""
-        return [self.one.step(step, row, pair) for row in rows for pair in inner]
-
     def whole(self, key, rows):
         """The trees of a rule."""
         placings = placings_of(self.one.tongue, key)
         return [self.one.tree_at(key[0], row, stir, places) for row in rows for stir, places in placings]
-
-    def choice(self, lists):
-        """All together."""
-        return [pair for pairs in lists for pair in pairs]
 
 
 class HeardWays:

@@ -382,6 +382,17 @@ class Many(unittest.TestCase):
         self.assertEqual((meaning_of(tongue, best), cost_of(tongue, best)), (meaning, 23))
         self.assertGreater(count_ways(tongue, meaning), 23 * 2 ** 23)
 
+    def test_wide_meanings_with_an_atom_or_a_role_of_no_tongue(self):
+        # Far too many pieces of them could be said.
+        letters = "bcdefghijklmnopqrstuvw"
+        tongue = Tongue(pairing([stem(letter, "n", letter) for letter in "a" + letters], 0, (1, 0, [])))
+        pairs = [("by", leaf(letter)) for letter in letters]
+        for more in (("by", leaf("z")), ("to", leaf("a")), ("by", ("b", (("num", "sg"),), ())), ("by", HOLE)):
+            meaning = node("a", *pairs, more)
+            self.assertEqual((ways(tongue, meaning), count_ways(tongue, meaning), best_way(tongue, meaning)), ([], 0, None))
+            self.assertEqual((sayings(tongue, meaning), best_saying(tongue, meaning)), ([], None))
+            self.assertEqual(ways_as(tongue, meaning, ("n", (), ())), [])
+
     def test_parts_beside_one_that_has_no_trees_are_not_listed(self):
         # The wide meaning by itself has far too many ways, and what stands beside it none.
         told = pairing([stem("a", "n", "p"), stem("b", "n", "p")], 0, (1, 0, []))
